@@ -1,0 +1,37 @@
+// Package common has what the layers above carrier share: first errors, checks of numbers and lists, lists that are transformed, and the lines of texts. (Package carrier depends on package api alone, and has its own.)
+package common
+
+import "kilovar/api"
+
+// First returns the first error of several, or OK. All of them are computed before it is called: each must be defined even if one before it is an error.
+func First(errors ...api.Errno) api.Errno {
+	for _, e := range errors {
+		if e != api.OK {
+			return e
+		}
+	}
+	return api.OK
+}
+
+// FailIf returns an error if a condition holds, or OK.
+func FailIf(bad bool, e api.Errno) api.Errno {
+	if bad {
+		return e
+	}
+	return api.OK
+}
+
+// Within returns ErrRange if a number is not from low to high, or OK.
+func Within(x, low, high int) api.Errno {
+	return FailIf(x < low || x > high, api.ErrRange)
+}
+
+// In returns the check whether a number is from low to high.
+func In(low, high int) func(int) api.Errno {
+	return func(x int) api.Errno { return Within(x, low, high) }
+}
+
+// Index returns ErrUnknown if a number is not the index of one of n elements, or OK.
+func Index(i, n int) api.Errno {
+	return FailIf(i < 0 || i >= n, api.ErrUnknown)
+}

@@ -1,0 +1,87 @@
+package common_test
+
+import (
+	"slices"
+	"testing"
+
+	"kilovar/api"
+	"kilovar/common"
+)
+
+func same[T comparable](t *testing.T, what string, got, want T) {
+	t.Helper()
+	if got != want {
+		t.Errorf("%s: got %v, want %v", what, got, want)
+	}
+}
+
+func TestFirst(t *testing.T) {
+	same(t, "First of none", common.First(), api.OK)
+	same(t, "First of OK alone", common.First(api.OK, api.OK), api.OK)
+	same(t, "First", common.First(api.OK, api.ErrZero, api.ErrRange), api.ErrZero)
+	same(t, "FailIf", common.FailIf(true, api.ErrZero), api.ErrZero)
+	same(t, "FailIf not", common.FailIf(false, api.ErrZero), api.OK)
+}
+
+func TestNumbers(t *testing.T) {
+	for x, e := range map[int]api.Errno{1: api.ErrRange, 2: api.OK, 3: api.OK, 4: api.ErrRange, -3: api.ErrRange} {
+		same(t, "Within", common.Within(x, 2, 3), e)
+		same(t, "In", common.In(2, 3)(x), e)
+	}
+	for i, e := range map[int]api.Errno{-1: api.ErrUnknown, 0: api.OK, 1: api.OK, 2: api.ErrUnknown} {
+		same(t, "Index", common.Index(i, 2), e)
+	}
+}
+
+func TestLists(t *testing.T) {
+	check := func(x int) api.Errno { return api.Errno(x) }
+	l := []int{0, int(api.ErrZero), int(api.ErrRange)}
+	same(t, "Each", common.Each(l, check), api.ErrZero)
+	same(t, "Each of none", common.Each(nil, check), api.OK)
+	same(t, "AtMost", common.AtMost(l, 3, check), api.ErrZero)
+	same(t, "AtMost of too many", common.AtMost(l, 2, check), api.ErrMany)
+	same(t, "AtMost of none", common.AtMost(nil, 0, check), api.OK)
+	same(t, "Some", common.Some(l[:1], 1, check), api.OK)
+	same(t, "Some of none", common.Some(nil, 1, check), api.ErrEmpty)
+	same(t, "Some of too many", common.Some(l, 2, check), api.ErrMany)
+	if got := common.Mapped([]int{1, 2}, func(x int) string { return string(rune('a' + x)) }); !slices.Equal(got, []string{"b", "c"}) {
+		t.Errorf("Mapped: got %v", got)
+	}
+}
+
+func TestLines(t *testing.T) {
+	for text, want := range map[string][]string{"": nil, "\n": {"\n"}, "a\nb\n": {"a\n", "b\n"}, "a\nb": {"a\n", "b"}, "a\n\n": {"a\n", "\n"}, "a": {"a"}} {
+		if got := common.Lines(text); !slices.Equal(got, want) {
+			t.Errorf("Lines of %q: got %q", text, got)
+		}
+	}
+}
+
+func TestWords(t *testing.T) {
+	for line, want := range map[string][]string{"a b\n": {"a", "b"}, "a  b\n": {"a", "", "b"}, " a\n": {"", "a"}, "a \n": {"a", ""}, "\n": {""}, "a\tb\n": {"a\tb"}} {
+		words, ended := common.WordsOf(line)
+		same(t, "a line feed at the end", ended, true)
+		var got []string
+		for word, ok := words.Take(); ok; word, ok = words.Take() {
+			got = append(got, word)
+		}
+		if !slices.Equal(got, want) {
+			t.Errorf("words of %q: got %q", line, got)
+		}
+	}
+	_, ended := common.WordsOf("a b")
+	same(t, "no line feed at the end", ended, false)
+}
+
+func TestInteger(t *testing.T) {
+	for word, want := range map[string]int{"0": 0, "7": 7, "-7": -7, "10": 10, "999999999": 999999999, "-999999999": -999999999} {
+		n, ok := common.Integer(word)
+		same(t, "Integer "+word, n, want)
+		same(t, "Integer "+word, ok, true)
+	}
+	for _, word := range []string{"", "-", "-0", "00", "01", "-01", "+1", "--1", "1-", " 1", "1 ", "1_0", "0x1", "1.0", "1e3", "a", "\u0661", "1\xff", "1\n", "1000000000", "-1000000000"} {
+		n, ok := common.Integer(word)
+		same(t, "Integer "+word, n, 0)
+		same(t, "Integer "+word, ok, false)
+	}
+}

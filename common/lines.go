@@ -1,0 +1,55 @@
+package common
+
+import "strings"
+
+// maxDigits is the most digits of an integer in a text.
+const maxDigits = 9
+
+// Lines returns the lines of a text, each with its line feed; what is after the last line feed is a line, too, if it is not empty.
+func Lines(text string) []string {
+	lines := strings.SplitAfter(text, "\n")
+	if last := len(lines) - 1; lines[last] == "" {
+		return lines[:last]
+	}
+	return lines
+}
+
+// Words has the words of a line that are not taken yet.
+type Words struct {
+	rest []string
+}
+
+// WordsOf returns the words of a line, and whether it has a line feed at its end. A blank that is one too many stands beside an empty word, which is a word of no form.
+func WordsOf(line string) (*Words, bool) {
+	text, ended := strings.CutSuffix(line, "\n")
+	return &Words{rest: strings.Split(text, " ")}, ended
+}
+
+// Take takes the next word, and reports whether there is one.
+func (w *Words) Take() (string, bool) {
+	if len(w.rest) == 0 {
+		return "", false
+	}
+	word := w.rest[0]
+	w.rest = w.rest[1:]
+	return word, true
+}
+
+// Integer returns the integer that a word is, and whether it is one: each integer has just one form.
+func Integer(word string) (int, bool) {
+	digits, negative := strings.CutPrefix(word, "-")
+	if digits == "" || len(digits) > maxDigits || digits[0] == '0' && word != "0" {
+		return 0, false
+	}
+	n := 0
+	for _, r := range digits {
+		if r < '0' || r > '9' {
+			return 0, false
+		}
+		n = 10*n + int(r-'0')
+	}
+	if negative {
+		return -n, true
+	}
+	return n, true
+}
