@@ -85,3 +85,16 @@ func TestInteger(t *testing.T) {
 		same(t, "Integer "+word, ok, false)
 	}
 }
+
+func TestNatural(t *testing.T) {
+	for word, want := range map[string]int{"0": 0, "7": 7, "10": 10, "999999999": 999999999} {
+		n, ok := common.Natural(word)
+		same(t, "Natural "+word, n, want)
+		same(t, "Natural "+word, ok, true)
+	}
+	for _, word := range []string{"", "-", "-0", "-7", "00", "01", "+1", " 1", "1 ", "1_0", "0x1", "1.0", "1e3", "a", "\u0661", "1\xff", "1\n", "1000000000"} {
+		n, ok := common.Natural(word)
+		same(t, "Natural "+word, n, 0)
+		same(t, "Natural "+word, ok, false)
+	}
+}

@@ -35,21 +35,27 @@ func (w *Words) Take() (string, bool) {
 	return word, true
 }
 
-// Integer returns the integer that a word is, and whether it is one: each integer has just one form.
-func Integer(word string) (int, bool) {
-	digits, negative := strings.CutPrefix(word, "-")
-	if digits == "" || len(digits) > maxDigits || digits[0] == '0' && word != "0" {
+// Natural returns the integer that a word of digits alone is, and whether it is one: each integer has just one form.
+func Natural(word string) (int, bool) {
+	if word == "" || len(word) > maxDigits || word[0] == '0' && word != "0" {
 		return 0, false
 	}
 	n := 0
-	for _, r := range digits {
+	for _, r := range word {
 		if r < '0' || r > '9' {
 			return 0, false
 		}
 		n = 10*n + int(r-'0')
 	}
-	if negative {
-		return -n, true
-	}
 	return n, true
+}
+
+// Integer returns the integer that a word of digits, or of digits behind a minus sign, is, and whether it is one: each integer has just one form.
+func Integer(word string) (int, bool) {
+	digits, negative := strings.CutPrefix(word, "-")
+	n, ok := Natural(digits)
+	if !negative {
+		return n, ok
+	}
+	return -n, ok && n != 0
 }
