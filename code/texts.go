@@ -27,8 +27,8 @@ func Parse(s string) (Code, []int, api.Errno) {
 	if len(s) > api.MaxText {
 		return Code{}, nil, api.ErrLong
 	}
-	numbers, ok := read(s)
-	if !ok || len(numbers) < 2 {
+	word, numbers, ok := common.Naturals(s) // a line feed before the end of the string is part of a word that is no integer
+	if !ok || word != opening || len(numbers) < 2 {
 		return Code{}, nil, api.ErrSyntax
 	}
 	c, l := Code{Length: numbers[0], Checks: numbers[1]}, numbers[2:]
@@ -36,20 +36,4 @@ func Parse(s string) (Code, []int, api.Errno) {
 		return Code{}, nil, e
 	}
 	return c, l, api.OK
-}
-
-// read returns the integers of a line, whatever they are worth, and whether it has its form. (A line feed before its end is part of a word that is no integer.)
-func read(line string) ([]int, bool) {
-	words, ended := common.WordsOf(line)
-	take := words.Take
-	first, _ := take()
-	var numbers []int
-	for word, more := take(); more; word, more = take() {
-		n, ok := common.Natural(word)
-		if !ok {
-			return nil, false
-		}
-		numbers = append(numbers, n)
-	}
-	return numbers, ended && first == opening
 }

@@ -2,6 +2,7 @@ package common_test
 
 import (
 	"slices"
+	"strings"
 	"testing"
 
 	"kilovar/api"
@@ -96,5 +97,23 @@ func TestNatural(t *testing.T) {
 		n, ok := common.Natural(word)
 		same(t, "Natural "+word, n, 0)
 		same(t, "Natural "+word, ok, false)
+	}
+}
+
+func TestNaturals(t *testing.T) {
+	for line, want := range map[string][]int{"a\n": nil, "a 1\n": {1}, "a 0 12 999999999\n": {0, 12, 999999999}, "\n": nil, " 7\n": {7}, "7 8\n": {8}} {
+		first, numbers, ok := common.Naturals(line)
+		word, _, _ := strings.Cut(strings.TrimSuffix(line, "\n"), " ")
+		same(t, "Naturals: the first word of "+line, first, word)
+		same(t, "Naturals of "+line, ok, true)
+		if !slices.Equal(numbers, want) {
+			t.Errorf("Naturals of %q: got %v", line, numbers)
+		}
+	}
+	for _, line := range []string{"", "a", "a 1", "a 1 \n", "a  1\n", "a \n", "a -1\n", "a 01\n", "a 1\n\n", "a 1\n2\n", "a x\n", "a 1 x\n", "a x 1\n", "a 1000000000\n"} {
+		first, numbers, ok := common.Naturals(line)
+		same(t, "Naturals: no first word of "+line, first, "")
+		same(t, "Naturals of "+line, ok, false)
+		same(t, "Naturals: no numbers of "+line, len(numbers), 0)
 	}
 }

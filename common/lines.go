@@ -50,6 +50,25 @@ func Natural(word string) (int, bool) {
 	return n, true
 }
 
+// Naturals returns the first word of a line, and the integers that all further words are; or false if one of these is not digits alone, or the line has no line feed at its end.
+func Naturals(line string) (string, []int, bool) {
+	words, ended := WordsOf(line)
+	take := words.Take
+	first, _ := take()
+	var numbers []int
+	for word, more := take(); more; word, more = take() {
+		n, ok := Natural(word)
+		if !ok {
+			return "", nil, false
+		}
+		numbers = append(numbers, n)
+	}
+	if !ended {
+		return "", nil, false
+	}
+	return first, numbers, true
+}
+
 // Integer returns the integer that a word of digits, or of digits behind a minus sign, is, and whether it is one: each integer has just one form.
 func Integer(word string) (int, bool) {
 	digits, negative := strings.CutPrefix(word, "-")
