@@ -35,3 +35,13 @@ func In(low, high int) func(int) api.Errno {
 func Index(i, n int) api.Errno {
 	return FailIf(i < 0 || i >= n, api.ErrUnknown)
 }
+
+// Ascending returns the check whether the elements of one list are indices of n elements, each above the one before it.
+func Ascending(n int) func(int) api.Errno {
+	before := -1
+	return func(i int) api.Errno {
+		e := First(Index(i, n), FailIf(i <= before, api.ErrOrder))
+		before = i
+		return e
+	}
+}

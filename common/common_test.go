@@ -34,6 +34,15 @@ func TestNumbers(t *testing.T) {
 	}
 }
 
+func TestAscending(t *testing.T) {
+	for _, x := range []struct {
+		l []int
+		e api.Errno
+	}{{nil, api.OK}, {[]int{0}, api.OK}, {[]int{0, 1, 3}, api.OK}, {[]int{1, 3}, api.OK}, {[]int{0, 0}, api.ErrOrder}, {[]int{2, 1}, api.ErrOrder}, {[]int{0, 3, 2}, api.ErrOrder}, {[]int{4}, api.ErrUnknown}, {[]int{-1}, api.ErrUnknown}, {[]int{1, -1}, api.ErrUnknown}, {[]int{1, 0, 4}, api.ErrOrder}, {[]int{1, 4, 0}, api.ErrUnknown}} {
+		same(t, "Ascending", common.Each(x.l, common.Ascending(4)), x.e)
+	}
+}
+
 func TestLists(t *testing.T) {
 	check := func(x int) api.Errno { return api.Errno(x) }
 	l := []int{0, int(api.ErrZero), int(api.ErrRange)}
@@ -115,5 +124,57 @@ func TestNaturals(t *testing.T) {
 		same(t, "Naturals: no first word of "+line, first, "")
 		same(t, "Naturals of "+line, ok, false)
 		same(t, "Naturals: no numbers of "+line, len(numbers), 0)
+	}
+}
+
+// sum is what a text of some lines says: a line `first` with a number, and lines `more` with two words that are not empty.
+type sum struct {
+	n     int
+	words string
+}
+
+func sumForms() map[string]common.LineForm[sum] {
+	return map[string]common.LineForm[sum]{
+		"first": {
+			Stands: func(index int, before sum) bool { return index == 0 && before == sum{} },
+			Read: func(out *sum, take common.Taker) bool {
+				word, _ := take()
+				n, ok := common.Natural(word)
+				out.n = n
+				return ok
+			},
+		},
+		"more": {
+			Stands: func(index int, before sum) bool { return index > 0 && len(before.words) < 4 },
+			Read: func(out *sum, take common.Taker) bool {
+				one, _ := take()
+				two, _ := take()
+				out.words += one + two
+				return one != "" && two != ""
+			},
+		},
+	}
+}
+
+func TestParsed(t *testing.T) {
+	check := func(x sum) api.Errno { return common.FailIf(x.n > 7, api.ErrRange) }
+	for text, want := range map[string]sum{"": {}, "first 7\n": {n: 7}, "first 7\nmore a b\nmore c d\n": {n: 7, words: "abcd"}} {
+		x, i, e := common.Parsed(text, sumForms(), check)
+		same(t, "Parsed: "+text, x, want)
+		same(t, "Parsed: index", i, 0)
+		same(t, "Parsed: error", e, api.OK)
+	}
+	for text, want := range map[string]struct {
+		i int
+		e api.Errno
+	}{
+		"first 7": {0, api.ErrSyntax}, "\n": {0, api.ErrSyntax}, "first\n": {0, api.ErrSyntax}, "first 7 \n": {0, api.ErrSyntax}, "first 7 7\n": {0, api.ErrSyntax}, "other 7\n": {0, api.ErrSyntax}, "more a b\n": {0, api.ErrSyntax}, "first 8 8\nx\n": {0, api.ErrSyntax},
+		"first 7\nfirst 7\n": {1, api.ErrSyntax}, "first 7\nmore a\n": {1, api.ErrSyntax}, "first 8\nmore a b": {1, api.ErrSyntax}, "first 7\n\n": {1, api.ErrSyntax}, "first 7\nmore a b\nmore a b\nmore a b\n": {3, api.ErrSyntax},
+		"first 8\n": {1, api.ErrRange}, "first 8\nmore a b\n": {2, api.ErrRange}, strings.Repeat("x", 4096): {0, api.ErrSyntax}, strings.Repeat("x", 4097): {0, api.ErrLong},
+	} {
+		x, i, e := common.Parsed(text, sumForms(), check)
+		same(t, "Parsed: nothing of "+text, x, sum{})
+		same(t, "Parsed: index of "+text, i, want.i)
+		same(t, "Parsed: error of "+text, e, want.e)
 	}
 }

@@ -41,75 +41,38 @@ func lineOf(factors []api.Gauss, words ...string) string {
 
 // Parse returns the mains with a text, or the index of the first line that is wrong.
 func Parse(s string) (Mains, int, api.Errno) {
-	if len(s) > api.MaxText {
-		return Mains{}, 0, api.ErrLong
+	if s == "" {
+		return Mains{}, 0, api.ErrSyntax
 	}
-	lines := common.Lines(s)
-	m, at, ok := readMains(lines)
-	if !ok {
-		return Mains{}, at, api.ErrSyntax
-	}
-	if e := CheckMains(m); e != api.OK {
-		return Mains{}, len(lines), e
-	}
-	return m, 0, api.OK
+	return common.Parsed(s, lineForms(), CheckMains)
 }
-
-// lineForm is a form of lines: whether it may stand at an index, behind what was read so far, and how the words behind the first one are read.
-type lineForm struct {
-	stands func(index int, before Mains) bool
-	read   func(m *Mains, take taker) bool
-}
-
-// taker takes the next word of a line, and reports whether there is one.
-type taker func() (string, bool)
 
 // lineForms returns the forms of lines by their first words.
-func lineForms() map[string]lineForm {
-	return map[string]lineForm{
+func lineForms() map[string]common.LineForm[Mains] {
+	return map[string]common.LineForm[Mains]{
 		mainsWord: {
-			stands: func(index int, before Mains) bool { return index == 0 },
-			read:   readHead,
+			Stands: func(index int, before Mains) bool { return index == 0 },
+			Read:   readHead,
 		},
 		nodeWord: {
-			stands: func(index int, before Mains) bool { return index > 0 && len(before.Loads) == 0 },
-			read:   readNode,
+			Stands: func(index int, before Mains) bool { return index > 0 && len(before.Loads) == 0 },
+			Read:   readNode,
 		},
 		loadWord: {
-			stands: func(index int, before Mains) bool { return index > 0 },
-			read:   readLoad,
+			Stands: func(index int, before Mains) bool { return index > 0 },
+			Read:   readLoad,
 		},
 	}
 }
 
-// readMains returns what lines say, whatever it is worth; or the index of the first line that has not its form, and false.
-func readMains(lines []string) (Mains, int, bool) {
-	var m Mains
-	forms := lineForms()
-	for i, line := range lines {
-		words, ended := common.WordsOf(line)
-		take := words.Take
-		word, _ := take()
-		form, known := forms[word]
-		ok := ended && known && form.stands(i, m)
-		if ok {
-			ok = form.read(&m, take)
-		}
-		if !ok {
-			return Mains{}, i, false
-		}
-	}
-	return m, 0, len(lines) > 0
-}
-
-func readHead(m *Mains, take taker) bool {
+func readHead(m *Mains, take common.Taker) bool {
 	carriers, ok := takeInteger(take)
 	cross, even := takeFactors(take)
 	m.Carriers, m.Cross = carriers, cross
 	return ok && even
 }
 
-func readNode(m *Mains, take taker) bool {
+func readNode(m *Mains, take common.Taker) bool {
 	name, _ := take()
 	up, hasUp := takeInteger(take)
 	phase, hasPhase := takeInteger(take)
@@ -118,7 +81,7 @@ func readNode(m *Mains, take taker) bool {
 	return name != "" && hasUp && hasPhase && even
 }
 
-func readLoad(m *Mains, take taker) bool {
+func readLoad(m *Mains, take common.Taker) bool {
 	node, ok := takeInteger(take)
 	state, _ := take()
 	factors, even := takeFactors(take)
@@ -127,13 +90,13 @@ func readLoad(m *Mains, take taker) bool {
 }
 
 // takeInteger takes a word that is an integer; a word that is missing is none.
-func takeInteger(take taker) (int, bool) {
+func takeInteger(take common.Taker) (int, bool) {
 	word, _ := take()
 	return common.Integer(word)
 }
 
 // takeFactors takes all words that are left, and reports whether they are an even number of integers.
-func takeFactors(take taker) ([]api.Gauss, bool) {
+func takeFactors(take common.Taker) ([]api.Gauss, bool) {
 	var out []api.Gauss
 	for word, more := take(); more; word, more = take() {
 		re, ok := common.Integer(word)

@@ -14,7 +14,7 @@ func CheckTones(t Tones) api.Errno {
 		common.Some(t.Noise, MaxParts, func(part []int) api.Errno { return checkPart(part, len(t.Signal)) }),
 		common.Within(t.Margin, 1, MaxMargin),
 		common.Within(t.Mask, 1, MaxMask),
-		checkNotches(t.Notches, len(t.Signal)),
+		common.Each(t.Notches, common.Ascending(len(t.Signal))),
 	)
 }
 
@@ -23,15 +23,6 @@ func checkPart(noise []int, carriers int) api.Errno {
 		return api.ErrShape
 	}
 	return common.Each(noise, common.In(1, MaxNoise))
-}
-
-func checkNotches(notches []int, carriers int) api.Errno {
-	before := -1
-	return common.Each(notches, func(k int) api.Errno {
-		e := common.First(common.Index(k, carriers), common.FailIf(k <= before, api.ErrOrder))
-		before = k
-		return e
-	})
 }
 
 // checkPartOf returns the first error of tones and of a part of them, or OK.
