@@ -2,8 +2,6 @@ package code
 
 import (
 	"slices"
-	"strconv"
-	"strings"
 
 	"kilovar/api"
 	"kilovar/common"
@@ -18,8 +16,7 @@ func Print(c Code, l []int) (string, api.Errno) {
 		return "", e
 	}
 	numbers := c.numbers()
-	words := common.Mapped(slices.Concat(numbers[:], l), strconv.Itoa)
-	return opening + " " + strings.Join(words, " ") + "\n", api.OK
+	return common.Line(opening, slices.Concat(numbers[:], l)...), api.OK
 }
 
 // Parse returns the code and the list of a text.

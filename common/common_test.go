@@ -127,6 +127,40 @@ func TestNaturals(t *testing.T) {
 	}
 }
 
+func TestIntegers(t *testing.T) {
+	for line, want := range map[string][]int{"": nil, "7": {7}, "0 -12 999999999": {0, -12, 999999999}, "-999999999": {-999999999}} {
+		words := strings.Fields(line)
+		numbers, ok := common.Integers(takerOf(words))
+		same(t, "Integers of "+line, ok, true)
+		if !slices.Equal(numbers, want) {
+			t.Errorf("Integers of %q: got %v", line, numbers)
+		}
+	}
+	for _, words := range [][]string{{""}, {"x"}, {"1", ""}, {"1", "", "2"}, {"1", "-0"}, {"01", "1"}, {"1", "1000000000"}, {"1", "x", "2"}} {
+		numbers, ok := common.Integers(takerOf(words))
+		same(t, "Integers: error", ok, false)
+		same(t, "Integers: no numbers", len(numbers), 0)
+	}
+}
+
+// takerOf takes one word after the other.
+func takerOf(words []string) common.Taker {
+	return func() (string, bool) {
+		if len(words) == 0 {
+			return "", false
+		}
+		word := words[0]
+		words = words[1:]
+		return word, true
+	}
+}
+
+func TestLine(t *testing.T) {
+	same(t, "Line without numbers", common.Line("a"), "a\n")
+	same(t, "Line", common.Line("a", 7), "a 7\n")
+	same(t, "Line of several numbers", common.Line("prices", 0, -12, 999999999), "prices 0 -12 999999999\n")
+}
+
 // sum is what a text of some lines says: a line `first` with a number, and lines `more` with two words that are not empty.
 type sum struct {
 	n     int

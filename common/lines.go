@@ -1,6 +1,9 @@
 package common
 
-import "strings"
+import (
+	"strconv"
+	"strings"
+)
 
 // maxDigits is the most digits of an integer in a text.
 const maxDigits = 9
@@ -55,18 +58,29 @@ func Naturals(line string) (string, []int, bool) {
 	words, ended := WordsOf(line)
 	take := words.Take
 	first, _ := take()
-	var numbers []int
-	for word, more := take(); more; word, more = take() {
-		n, ok := Natural(word)
-		if !ok {
-			return "", nil, false
-		}
-		numbers = append(numbers, n)
-	}
-	if !ended {
+	numbers, ok := numbersOf(take, Natural)
+	if !ok || !ended {
 		return "", nil, false
 	}
 	return first, numbers, true
+}
+
+// Integers takes all words that are left, and returns the integers that they are; or false if one of them is none.
+func Integers(take Taker) ([]int, bool) {
+	return numbersOf(take, Integer)
+}
+
+// numbersOf takes all words that are left, and returns the numbers that they are; or false if one of them is none.
+func numbersOf(take Taker, number func(word string) (int, bool)) ([]int, bool) {
+	var out []int
+	for word, more := take(); more; word, more = take() {
+		n, ok := number(word)
+		if !ok {
+			return nil, false
+		}
+		out = append(out, n)
+	}
+	return out, true
 }
 
 // Integer returns the integer that a word of digits, or of digits behind a minus sign, is, and whether it is one: each integer has just one form.
@@ -77,4 +91,10 @@ func Integer(word string) (int, bool) {
 		return n, ok
 	}
 	return -n, ok && n != 0
+}
+
+// Line returns the line with a word and numbers behind it.
+func Line(word string, numbers ...int) string {
+	words := append([]string{word}, Mapped(numbers, strconv.Itoa)...)
+	return strings.Join(words, " ") + "\n"
 }

@@ -2,7 +2,6 @@ package link
 
 import (
 	"math"
-	"strconv"
 	"strings"
 
 	"kilovar/api"
@@ -26,7 +25,7 @@ func lineOf(f Frame) string {
 	for _, b := range f.Bytes {
 		numbers = append(numbers, int(b))
 	}
-	return opening + " " + strings.Join(common.Mapped(numbers, strconv.Itoa), " ") + "\n"
+	return common.Line(opening, numbers...)
 }
 
 // Parse returns the frames of a text, and the index of the first line that is wrong.

@@ -2,7 +2,6 @@ package mesh
 
 import (
 	"slices"
-	"strconv"
 	"strings"
 
 	"kilovar/api"
@@ -39,11 +38,11 @@ func Print(m Mesh) (string, api.Errno) {
 }
 
 func linkLine(l Link) string {
-	line := linkWord
+	var out []int
 	for _, n := range numbers() {
-		line += " " + strconv.Itoa(*n.of(&l))
+		out = append(out, *n.of(&l))
 	}
-	return line + "\n"
+	return common.Line(linkWord, out...)
 }
 
 // Parse returns the mesh of a string, and the index of the first line that is wrong.

@@ -1,7 +1,6 @@
 package meter
 
 import (
-	"strconv"
 	"strings"
 
 	"kilovar/api"
@@ -18,7 +17,7 @@ func Print(m Meter) (string, api.Errno) {
 	}
 	var text strings.Builder
 	for i, r := range m {
-		text.WriteString(names[i] + " " + strconv.Itoa(r.Units) + " " + strconv.Itoa(r.Rest) + "\n")
+		text.WriteString(common.Line(names[i], r.Units, r.Rest))
 	}
 	return text.String(), api.OK
 }

@@ -1,6 +1,7 @@
 package tone
 
 import (
+	"slices"
 	"strconv"
 	"strings"
 
@@ -97,14 +98,13 @@ func takeInteger(take common.Taker) (int, bool) {
 
 // takeFactors takes all words that are left, and reports whether they are an even number of integers.
 func takeFactors(take common.Taker) ([]api.Gauss, bool) {
+	numbers, ok := common.Integers(take)
+	if !ok || len(numbers)%2 != 0 {
+		return nil, false
+	}
 	var out []api.Gauss
-	for word, more := take(); more; word, more = take() {
-		re, ok := common.Integer(word)
-		im, also := takeInteger(take)
-		if !ok || !also {
-			return nil, false
-		}
-		out = append(out, api.Gauss{Re: re, Im: im})
+	for pair := range slices.Chunk(numbers, 2) {
+		out = append(out, api.Gauss{Re: pair[0], Im: pair[1]})
 	}
 	return out, true
 }
