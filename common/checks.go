@@ -1,7 +1,11 @@
 // Package common has what the layers above carrier share: first errors, checks of numbers and lists, lists that are transformed, and the lines of texts. (Package carrier depends on package api alone, and has its own.)
 package common
 
-import "kilovar/api"
+import (
+	"math"
+
+	"kilovar/api"
+)
 
 // First returns the first error of several, or OK. All of them are computed before it is called: each must be defined even if one before it is an error.
 func First(errors ...api.Errno) api.Errno {
@@ -36,12 +40,18 @@ func Index(i, n int) api.Errno {
 	return FailIf(i < 0 || i >= n, api.ErrUnknown)
 }
 
-// Ascending returns the check whether the elements of one list are indices of n elements, each above the one before it.
-func Ascending(n int) func(int) api.Errno {
-	before := -1
-	return func(i int) api.Errno {
-		e := First(Index(i, n), FailIf(i <= before, api.ErrOrder))
-		before = i
+// Rising returns the check whether the numbers of one list rise: each is above the one before it.
+func Rising() func(int) api.Errno {
+	before := math.MinInt
+	return func(x int) api.Errno {
+		e := FailIf(x <= before, api.ErrOrder)
+		before = x
 		return e
 	}
+}
+
+// Ascending returns the check whether the elements of one list are indices of n elements, each above the one before it.
+func Ascending(n int) func(int) api.Errno {
+	order := Rising()
+	return func(i int) api.Errno { return First(Index(i, n), order(i)) }
 }

@@ -43,6 +43,15 @@ func TestAscending(t *testing.T) {
 	}
 }
 
+func TestRising(t *testing.T) {
+	for _, x := range []struct {
+		l []int
+		e api.Errno
+	}{{nil, api.OK}, {[]int{-7}, api.OK}, {[]int{-7, -6, 0, 5}, api.OK}, {[]int{3, 3}, api.ErrOrder}, {[]int{3, 2}, api.ErrOrder}, {[]int{1, 3, 2}, api.ErrOrder}, {[]int{0, 1, 2, 2}, api.ErrOrder}} {
+		same(t, "Rising", common.Each(x.l, common.Rising()), x.e)
+	}
+}
+
 func TestLists(t *testing.T) {
 	check := func(x int) api.Errno { return api.Errno(x) }
 	l := []int{0, int(api.ErrZero), int(api.ErrRange)}
@@ -57,6 +66,11 @@ func TestLists(t *testing.T) {
 	if got := common.Mapped([]int{1, 2}, func(x int) string { return string(rune('a' + x)) }); !slices.Equal(got, []string{"b", "c"}) {
 		t.Errorf("Mapped: got %v", got)
 	}
+	above := func(x, other int) bool { return x > other }
+	if got := common.Filtered([]int{1, 5, 2, 3}, above, 2); !slices.Equal(got, []int{5, 3}) {
+		t.Errorf("Filtered: got %v", got)
+	}
+	same(t, "Filtered to nothing", len(common.Filtered([]int{1, 5}, above, 7)), 0)
 }
 
 func TestLines(t *testing.T) {
@@ -93,6 +107,19 @@ func TestInteger(t *testing.T) {
 		n, ok := common.Integer(word)
 		same(t, "Integer "+word, n, 0)
 		same(t, "Integer "+word, ok, false)
+	}
+}
+
+func TestMoney(t *testing.T) {
+	for word, want := range map[string]int{"0": 0, "-7": -7, "999999999": 999999999, "1000000000": 1000000000, "-1000000000000": -1000000000000, "9999999999999": 9999999999999} {
+		n, ok := common.Money(word)
+		same(t, "Money "+word, n, want)
+		same(t, "Money "+word, ok, true)
+	}
+	for _, word := range []string{"", "-", "-0", "00", "01", "-01", "+1", "--1", " 1", "1_0", "a", "1\n", "10000000000000", "-10000000000000", "0000000000001"} {
+		n, ok := common.Money(word)
+		same(t, "Money "+word, n, 0)
+		same(t, "Money "+word, ok, false)
 	}
 }
 
@@ -141,6 +168,17 @@ func TestIntegers(t *testing.T) {
 		same(t, "Integers: error", ok, false)
 		same(t, "Integers: no numbers", len(numbers), 0)
 	}
+}
+
+func TestNumbersOfWords(t *testing.T) {
+	numbers, ok := common.Numbers(takerOf([]string{"-1000000000", "3"}), common.Money)
+	same(t, "Numbers", ok, true)
+	if !slices.Equal(numbers, []int{-1000000000, 3}) {
+		t.Errorf("Numbers: got %v", numbers)
+	}
+	numbers, ok = common.Numbers(takerOf([]string{"3", "-1"}), common.Natural)
+	same(t, "Numbers: error", ok, false)
+	same(t, "Numbers: no numbers", len(numbers), 0)
 }
 
 // takerOf takes one word after the other.

@@ -5,8 +5,11 @@ import (
 	"strings"
 )
 
-// maxDigits is the most digits of an integer in a text.
-const maxDigits = 9
+// The most digits of an integer in a text, and of one that may be money.
+const (
+	maxDigits   = 9
+	moneyDigits = 13
+)
 
 // Lines returns the lines of a text, each with its line feed; what is after the last line feed is a line, too, if it is not empty.
 func Lines(text string) []string {
@@ -40,7 +43,11 @@ func (w *Words) Take() (string, bool) {
 
 // Natural returns the integer that a word of digits alone is, and whether it is one: each integer has just one form.
 func Natural(word string) (int, bool) {
-	if word == "" || len(word) > maxDigits || word[0] == '0' && word != "0" {
+	return natural(word, maxDigits)
+}
+
+func natural(word string, most int) (int, bool) {
+	if word == "" || len(word) > most || word[0] == '0' && word != "0" {
 		return 0, false
 	}
 	n := 0
@@ -53,12 +60,31 @@ func Natural(word string) (int, bool) {
 	return n, true
 }
 
+// Integer returns the integer that a word of digits, or of digits behind a minus sign, is, and whether it is one: each integer has just one form.
+func Integer(word string) (int, bool) {
+	return integer(word, maxDigits)
+}
+
+// Money is Integer with as many digits as the greatest amounts of money have.
+func Money(word string) (int, bool) {
+	return integer(word, moneyDigits)
+}
+
+func integer(word string, most int) (int, bool) {
+	digits, negative := strings.CutPrefix(word, "-")
+	n, ok := natural(digits, most)
+	if !negative {
+		return n, ok
+	}
+	return -n, ok && n != 0
+}
+
 // Naturals returns the first word of a line, and the integers that all further words are; or false if one of these is not digits alone, or the line has no line feed at its end.
 func Naturals(line string) (string, []int, bool) {
 	words, ended := WordsOf(line)
 	take := words.Take
 	first, _ := take()
-	numbers, ok := numbersOf(take, Natural)
+	numbers, ok := Numbers(take, Natural)
 	if !ok || !ended {
 		return "", nil, false
 	}
@@ -67,11 +93,11 @@ func Naturals(line string) (string, []int, bool) {
 
 // Integers takes all words that are left, and returns the integers that they are; or false if one of them is none.
 func Integers(take Taker) ([]int, bool) {
-	return numbersOf(take, Integer)
+	return Numbers(take, Integer)
 }
 
-// numbersOf takes all words that are left, and returns the numbers that they are; or false if one of them is none.
-func numbersOf(take Taker, number func(word string) (int, bool)) ([]int, bool) {
+// Numbers takes all words that are left, and returns the numbers that they are, as one of the functions above reads them; or false if one of them is none.
+func Numbers(take Taker, number func(word string) (int, bool)) ([]int, bool) {
 	var out []int
 	for word, more := take(); more; word, more = take() {
 		n, ok := number(word)
@@ -81,16 +107,6 @@ func numbersOf(take Taker, number func(word string) (int, bool)) ([]int, bool) {
 		out = append(out, n)
 	}
 	return out, true
-}
-
-// Integer returns the integer that a word of digits, or of digits behind a minus sign, is, and whether it is one: each integer has just one form.
-func Integer(word string) (int, bool) {
-	digits, negative := strings.CutPrefix(word, "-")
-	n, ok := Natural(digits)
-	if !negative {
-		return n, ok
-	}
-	return -n, ok && n != 0
 }
 
 // Line returns the line with a word and numbers behind it.

@@ -36,3 +36,14 @@ func Mapped[T, U any](l []T, change func(T) U) []U {
 	}
 	return out
 }
+
+// Filtered returns the elements of a list that have a property, which depends on something else.
+func Filtered[T, U any](l []T, has func(T, U) bool, other U) []T {
+	var out []T
+	for _, x := range l {
+		if has(x, other) {
+			out = append(out, x)
+		}
+	}
+	return out
+}

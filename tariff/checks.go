@@ -1,8 +1,6 @@
 package tariff
 
 import (
-	"math"
-
 	"kilovar/api"
 	"kilovar/common"
 )
@@ -48,25 +46,15 @@ func checkWeek(week [7]int, types int) api.Errno {
 }
 
 func checkBlocks(l []Block) api.Errno {
-	order := rising()
+	order := common.Rising()
 	return common.AtMost(l, MaxBlocks, func(b Block) api.Errno {
 		return common.First(common.Within(b.From, 1, MaxUsed), common.Within(b.Add, -MaxPrice, MaxPrice), order(b.From))
 	})
 }
 
-// rising returns the check whether the numbers of one list rise: each is above the one before it.
-func rising() func(int) api.Errno {
-	before := math.MinInt
-	return func(x int) api.Errno {
-		e := common.FailIf(x <= before, api.ErrOrder)
-		before = x
-		return e
-	}
-}
-
 // risingFromZero returns the check whether the numbers of one list rise from 0 on.
 func risingFromZero() func(int) api.Errno {
-	order, opened := rising(), false
+	order, opened := common.Rising(), false
 	return func(x int) api.Errno {
 		e := common.First(common.FailIf(!opened && x != 0, api.ErrOrder), order(x))
 		opened = true
