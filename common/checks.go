@@ -1,10 +1,11 @@
-// Package common has what the layers above carrier share: first errors, checks of numbers and lists, lists that are transformed, and the lines of texts. (Package carrier depends on package api alone, and has its own.)
+// Package common has what the layers above carrier share: first errors, checks of numbers, names and lists, lists that are transformed, and the lines of texts. (Package carrier depends on package api alone, and has its own.)
 package common
 
 import (
 	"math"
 
 	"kilovar/api"
+	"kilovar/carrier"
 )
 
 // First returns the first error of several, or OK. All of them are computed before it is called: each must be defined even if one before it is an error.
@@ -38,6 +39,21 @@ func In(low, high int) func(int) api.Errno {
 // Index returns ErrUnknown if a number is not the index of one of n elements, or OK.
 func Index(i, n int) api.Errno {
 	return FailIf(i < 0 || i >= n, api.ErrUnknown)
+}
+
+// Name returns ErrName if a string is not a name, or OK.
+func Name(s string) api.Errno {
+	return FailIf(!carrier.IsName(s), api.ErrName)
+}
+
+// Once returns the check whether the elements of one list differ: none stands before.
+func Once[T comparable]() func(T) api.Errno {
+	seen := map[T]bool{}
+	return func(x T) api.Errno {
+		twice := seen[x]
+		seen[x] = true
+		return FailIf(twice, api.ErrTwice)
+	}
 }
 
 // Rising returns the check whether the numbers of one list rise: each is above the one before it.

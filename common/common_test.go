@@ -34,6 +34,25 @@ func TestNumbers(t *testing.T) {
 	}
 }
 
+func TestName(t *testing.T) {
+	for name, e := range map[string]api.Errno{"a": api.OK, "Z_9": api.OK, "abcdefghijklmnopqrstuvwx": api.OK, "": api.ErrName, "9": api.ErrName, "_": api.ErrName, "a b": api.ErrName, "a\xff": api.ErrName, "abcdefghijklmnopqrstuvwxy": api.ErrName} {
+		same(t, "Name "+name, common.Name(name), e)
+	}
+}
+
+func TestOnce(t *testing.T) {
+	for _, x := range []struct {
+		l []string
+		e api.Errno
+	}{{nil, api.OK}, {[]string{""}, api.OK}, {[]string{"a", "A", "b", ""}, api.OK}, {[]string{"a", "a"}, api.ErrTwice}, {[]string{"a", "b", "a"}, api.ErrTwice}, {[]string{"", "b", ""}, api.ErrTwice}} {
+		same(t, "Once", common.Each(x.l, common.Once[string]()), x.e)
+	}
+	once := common.Once[int]()
+	for _, e := range []api.Errno{api.OK, api.ErrTwice, api.ErrTwice} {
+		same(t, "Once of one number", once(7), e)
+	}
+}
+
 func TestAscending(t *testing.T) {
 	for _, x := range []struct {
 		l []int

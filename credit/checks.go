@@ -2,7 +2,6 @@ package credit
 
 import (
 	"kilovar/api"
-	"kilovar/carrier"
 	"kilovar/common"
 )
 
@@ -53,17 +52,13 @@ func CheckSwitch(s Switch) api.Errno {
 			i++
 			before := s.Orders[:i]
 			return common.First(
-				checkOffice(o.Office),
+				common.Name(o.Office),
 				common.FailIf(isOrderedBy(before, o.Office), api.ErrTwice),
 				checkTick(o.Tick),
 				checkBehind(before, o.Tick),
 			)
 		}),
 	)
-}
-
-func checkOffice(office string) api.Errno {
-	return common.FailIf(!carrier.IsName(office), api.ErrName)
 }
 
 // checkBehind returns ErrOrder if a tick is before that of the last one of some orders, or OK.

@@ -37,7 +37,7 @@ func Ordered(s Switch, office string, tick int) (Switch, api.Errno) {
 	others := common.Filtered(s.Orders, Order.isOfOther, office)
 	e := common.First(
 		CheckSwitch(s),
-		checkOffice(office),
+		common.Name(office),
 		checkTick(tick),
 		common.FailIf(!s.On, api.ErrState),
 		checkBehind(s.Orders, tick),
@@ -51,7 +51,7 @@ func Ordered(s Switch, office string, tick int) (Switch, api.Errno) {
 
 // Withdrawn returns a switch without an order.
 func Withdrawn(s Switch, office string) (Switch, api.Errno) {
-	if e := common.First(CheckSwitch(s), checkOffice(office), common.FailIf(!isOrderedBy(s.Orders, office), api.ErrUnknown)); e != api.OK {
+	if e := common.First(CheckSwitch(s), common.Name(office), common.FailIf(!isOrderedBy(s.Orders, office), api.ErrUnknown)); e != api.OK {
 		return Switch{}, e
 	}
 	return Switch{On: s.On, Orders: common.Filtered(s.Orders, Order.isOfOther, office)}, api.OK

@@ -4,7 +4,6 @@ import (
 	"slices"
 
 	"kilovar/api"
-	"kilovar/carrier"
 	"kilovar/common"
 )
 
@@ -74,7 +73,7 @@ func CheckStations(l []Station) api.Errno {
 		known := names[s.Name]
 		names[s.Name] = true
 		return common.First(
-			common.FailIf(!carrier.IsName(s.Name), api.ErrName),
+			common.Name(s.Name),
 			common.FailIf(known, api.ErrTwice),
 			common.Within(s.Priority, 0, MaxPriority),
 			common.Within(s.Frames, 0, MaxQueue),

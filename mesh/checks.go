@@ -4,7 +4,6 @@ import (
 	"slices"
 
 	"kilovar/api"
-	"kilovar/carrier"
 	"kilovar/common"
 )
 
@@ -18,7 +17,7 @@ func checkNodes(nodes []string) api.Errno {
 	i := -1
 	return common.AtMost(nodes, MaxNodes, func(name string) api.Errno {
 		i++
-		return common.First(checkName(name), common.FailIf(at[name] < i, api.ErrTwice))
+		return common.First(common.Name(name), common.FailIf(at[name] < i, api.ErrTwice))
 	})
 }
 
@@ -31,14 +30,10 @@ func named(nodes []string) map[string]int {
 	return at
 }
 
-func checkName(name string) api.Errno {
-	return common.FailIf(!carrier.IsName(name), api.ErrName)
-}
-
 // checkNewName returns the error of the name of a node that joins a mesh, or OK.
 func checkNewName(m Mesh, name string) api.Errno {
 	_, known := named(m.Nodes)[name]
-	return common.First(checkName(name), common.FailIf(known, api.ErrTwice))
+	return common.First(common.Name(name), common.FailIf(known, api.ErrTwice))
 }
 
 func checkNode(m Mesh, node int) api.Errno {

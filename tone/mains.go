@@ -4,7 +4,6 @@ import (
 	"slices"
 
 	"kilovar/api"
-	"kilovar/carrier"
 	"kilovar/common"
 )
 
@@ -51,7 +50,7 @@ func checkNodes(nodes []Node, carriers int) api.Errno {
 		known := names[n.Name]
 		names[n.Name] = true
 		return common.First(
-			common.FailIf(!carrier.IsName(n.Name), api.ErrName),
+			common.Name(n.Name),
 			common.FailIf(known, api.ErrTwice),
 			checkPlace(nodes[:i], n, carriers),
 		)
