@@ -114,6 +114,12 @@ func TestWords(t *testing.T) {
 	}
 	_, ended := common.WordsOf("a b")
 	same(t, "no line feed at the end", ended, false)
+	words := common.WordsIn("a\n b\n") // a line feed is no end of a string
+	for _, want := range []string{"a\n", "b\n", ""} {
+		word, ok := words.Take()
+		same(t, "a word of a string", word, want)
+		same(t, "whether there is one", ok, want != "")
+	}
 }
 
 func TestInteger(t *testing.T) {

@@ -25,10 +25,15 @@ type Words struct {
 	rest []string
 }
 
-// WordsOf returns the words of a line, and whether it has a line feed at its end. A blank that is one too many stands beside an empty word, which is a word of no form.
+// WordsIn returns the words of a string. A blank that is one too many stands beside an empty word, which is a word of no form.
+func WordsIn(s string) *Words {
+	return &Words{rest: strings.Split(s, " ")}
+}
+
+// WordsOf returns the words of a line, and whether it has a line feed at its end.
 func WordsOf(line string) (*Words, bool) {
 	text, ended := strings.CutSuffix(line, "\n")
-	return &Words{rest: strings.Split(text, " ")}, ended
+	return WordsIn(text), ended
 }
 
 // Take takes the next word, and reports whether there is one.
